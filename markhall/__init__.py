@@ -1,0 +1,1 @@
+"""Markhall: things and their marks, the notions they make, and the fewest rules among marks."""
