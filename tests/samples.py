@@ -49,3 +49,34 @@ NO_RULES = (
     (), ((),), ((0,),), ((), (), ()), ((0,), (1,), (2,)), [(), ()], [(0,), (1,)], (0, 1),
     None, True, False, 0, 3, HUGE, "", "if then end",
 )
+
+
+def all_tables(many, most):
+    """Every table of so many marks and at most so many things."""
+    for size in range(most + 1):
+        for rows in itertools.product(all_marks(many), repeat=size):
+            yield (many, rows)
+
+
+def all_rules(many):
+    return list(itertools.product(all_marks(many), repeat=2))
+
+
+def but_one(many):
+    """The table in which each thing lacks one mark alone: all marks are closed."""
+    everything = tuple(range(many))
+    return (many, tuple(everything[:mark] + everything[mark + 1:] for mark in everything))
+
+
+# Of six marks, with notions of many sizes.
+LARGE = (
+    (6, ((0, 1, 2), (0, 3), (1, 3, 5), (2, 4), (0, 1, 2, 3, 4, 5), (), (4, 5), (0, 1, 2))),
+    (6, ((0, 2, 4), (1, 3, 5), (0, 1, 4, 5), (2, 3), (0, 1, 2, 3), (2, 3, 4, 5))),
+    (6, tuple(tuple(range(size)) for size in range(7))),
+    (6, tuple((mark,) for mark in range(6))),
+    (6, tuple(all_marks(6))),
+    (6, tuple(reversed(all_marks(6)))),
+    (6, ((0, 5),) * 64),
+    but_one(6),
+    (5, ((0, 1, 2), (1, 2, 3), (2, 3, 4), (0, 3, 4), (0, 1, 4))),
+)

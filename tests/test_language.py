@@ -32,6 +32,8 @@ UNSAID = re.compile(
     r"namedtuple|NamedTuple|TypedDict|TYPE_CHECKING|abstractmethod)\b|dataclass|overload|contextmanager"
 )
 PLAIN_NAME = re.compile(r"[A-Za-z][A-Za-z0-9_]*\Z")
+WALKED = ("range", "zip", "enumerate", "reversed")
+WALKERS = ("list", "tuple", "dict", "sorted", "sum", "any", "all", "enumerate", "zip", "min", "max")
 TWO_UNDERSCORES = ("__init__", "__eq__", "__repr__", "__str__", "__len__", "__all__", "__version__")
 
 
@@ -41,6 +43,10 @@ def sources():
 
 def tree_of(path):
     return ast.parse(path.read_text(encoding="utf-8"))
+
+
+def above_each(tree):
+    return {part: node for node in ast.walk(tree) for part in ast.iter_child_nodes(node)}
 
 
 def names_bound(tree):
@@ -129,6 +135,43 @@ class TestLanguage(unittest.TestCase):
                                     for side in sides))
 
         self.ask_each_node(check)
+
+    def test_comprehensions(self):
+        def check(node):
+            if isinstance(node, ast.ListComp):
+                self.assertEqual(len(node.generators), 1)
+                self.assertLessEqual(len(node.generators[0].ifs), 1)
+
+        self.ask_each_node(check)
+
+    def ask_each_call(self, called, check):
+        for path in sources():
+            tree = tree_of(path)
+            above = above_each(tree)
+            for node in above:
+                if isinstance(node, ast.Call) and isinstance(node.func, ast.Name) and node.func.id in called:
+                    with self.subTest(file=path.name, line=node.lineno):
+                        check(node, above[node])
+
+    def test_walked_at_once(self):
+        def check(node, around):
+            if isinstance(around, ast.Call) and isinstance(around.func, ast.Attribute):
+                self.assertEqual(around.func.attr, "join")
+            elif isinstance(around, ast.Call):
+                self.assertIn(around.func.id, WALKERS)
+            else:
+                self.assertIsInstance(around, (ast.For, ast.comprehension))
+
+        self.ask_each_call(WALKED, check)
+
+    def test_sets_are_not_kept(self):
+        def check(node, around):
+            if isinstance(around, ast.Call):
+                self.assertIn(around.func.id, ("sorted", "len"))
+            else:
+                self.assertIsInstance(around, (ast.Compare, ast.BinOp))
+
+        self.ask_each_call(("set", "frozenset"), check)
 
     def test_functions_and_classes(self):
         def check(node):
