@@ -13,6 +13,10 @@ def in_either(one, other):
     return tuple(sorted(set(one) | set(other)))
 
 
+def without(marks, others):
+    return tuple([mark for mark in marks if mark not in others])
+
+
 def one_more(level, many):
     longer = []
     for marks in level:

@@ -80,3 +80,31 @@ LARGE = (
     but_one(6),
     (5, ((0, 1, 2), (1, 2, 3), (2, 3, 4), (0, 3, 4), (0, 1, 4))),
 )
+
+
+def tables_of_unlike_rows(many):
+    """Each choice of rows once, in their order: 256 tables of three marks, and their notions are all there can be."""
+    rows = all_marks(many)
+    for size in range(len(rows) + 1):
+        for chosen in itertools.combinations(rows, size):
+            yield (many, chosen)
+
+
+def rows_of_rules(many, most):
+    """Every row of at most so many rules, in every order."""
+    for size in range(most + 1):
+        yield from itertools.product(all_rules(many), repeat=size)
+
+
+# Rules of six marks: a row of them that need several turns, some at odds, some that tell nothing.
+LARGE_RULES = (
+    (),
+    tuple(((mark,), (mark + 1,)) for mark in range(5)),
+    tuple(((mark + 1,), (mark,)) for mark in range(5)),
+    (((0, 1), (2,)), ((2, 3), (4, 5)), ((5,), (0,)), ((1, 4), (3,))),
+    (((), (2,)), ((2,), (4,)), ((0, 4), (1, 3)), ((0, 1, 2), ())),
+    (((0, 1, 2, 3, 4, 5), ()), ((0, 1), (0,)), ((), ())),
+    (((), (0, 1, 2, 3, 4, 5)),),
+    tuple((pair, (0, 1, 2, 3, 4, 5)) for pair in itertools.combinations(range(6), 3)),
+    tuple((marks, tuple(mark for mark in range(6) if mark not in marks)[:1]) for marks in all_marks(6)),
+)

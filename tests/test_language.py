@@ -67,6 +67,10 @@ def names_drawn(tree):
             yield from (alias.asname or alias.name for alias in node.names)
 
 
+def files_drawn(tree):
+    return [node.module.split(".")[1] for node in tree.body if isinstance(node, ast.ImportFrom)]
+
+
 def names_defined(tree):
     for node in tree.body:
         if isinstance(node, (ast.FunctionDef, ast.ClassDef)):
@@ -212,6 +216,31 @@ class TestLanguage(unittest.TestCase):
                 for node in ast.walk(tree):
                     if isinstance(node, ast.Name) and isinstance(node.ctx, ast.Load):
                         self.assertIn(node.id, bound + tops + OWN_NAMES)
+
+    def test_no_two_files_draw_from_one_another(self):
+        drawn = {path.stem: files_drawn(tree_of(path)) for path in sources()}
+        self.assertEqual(drawn["__init__"], [])
+        while drawn:
+            free = [stem for stem in drawn if not any(other in drawn for other in drawn[stem])]
+            self.assertTrue(free, drawn)
+            drawn = {stem: others for stem, others in drawn.items() if stem not in free}
+
+    def test_classes_and_their_values(self):
+        methods = []
+        values = []
+        for path in sources():
+            for node in ast.walk(tree_of(path)):
+                if isinstance(node, ast.ClassDef):
+                    own = [part.name for part in node.body if isinstance(part, ast.FunctionDef)]
+                    self.assertEqual(len(own), len(set(own)))
+                    methods.extend(own)
+                if isinstance(node, ast.Attribute) and isinstance(node.ctx, ast.Store):
+                    values.append(node.attr)
+                if isinstance(node, ast.FunctionDef) and node.name == "__init__":
+                    self.assertFalse(any(isinstance(part, ast.Return) for part in ast.walk(node)))
+        self.assertEqual(set(methods) & set(values), set())
+        for kind in (str, int, list, dict, set, bytes, tuple):
+            self.assertEqual([name for name in methods + values if name != "__init__" and hasattr(kind, name)], [])
 
     def test_methods(self):
         free = list(own_attributes()) + METHODS

@@ -1,7 +1,7 @@
 import itertools
 import unittest
 
-from markhall.marks import all_marks, are_among, in_both, in_either
+from markhall.marks import all_marks, are_among, in_both, in_either, without
 from tests.cases import AnswerCase
 from tests import samples
 
@@ -21,6 +21,7 @@ class TestMarksBesideOthers(AnswerCase):
             self.tell(set(one) <= set(other), are_among, one, other)
             self.tell(tuple(sorted(set(one) & set(other))), in_both, one, other)
             self.tell(tuple(sorted(set(one) | set(other))), in_either, one, other)
+            self.tell(tuple(sorted(set(one) - set(other))), without, one, other)
 
 
 if __name__ == "__main__":
